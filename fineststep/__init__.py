@@ -1,0 +1,1 @@
+"""Finest step: exact answers for sums of cells with bounds and prices."""

@@ -1,0 +1,39 @@
+"""The interface of the document: the forms of the functions and classes of each file."""
+
+FUNCTIONS = {
+    "exact": """ratio(top, bottom) top_of(number) bottom_of(number) plus(x, y) minus(x, y) times(x, y) over(x, y) less(x, y)
+        is_whole(number) floor_of(number) ceiling_of(number) nearest(number) common_bottom(numbers) least_of(numbers)
+        greatest_of(numbers) number_text(number) read_number(text)""",
+    "rows": """support(numbers) agrees(first, second) dot(first, second) negative(numbers) scaled(numbers, factor)
+        added(first, second) before(first, second) primitive(numbers)""",
+    "books": """pivots(book) cell_of(book, name) is_table(book, numbers) table_of(book, values) same_book(first, second)
+        other_side(book)""",
+    "models": """is_answer(model, numbers) is_whole_answer(model, numbers) price_of(model, numbers) same_model(first, second)
+        with_box(model, box) with_range(model, cell, low, high) with_price(model, cell, price)
+        with_mark(model, cell, marked)""",
+    "reading": "read_model(text)",
+    "writing": "write_model(model)",
+    "listing": "write_table(book, table) read_table(book, text) columns(model, table)",
+    "settled": "first_free(book, cells) rank(book, cells) settled(book, cells) settling_rule(book, cells, cell)",
+    "bases": "bases(book) is_basis(book, cells) basis_rows(book, basis) swap(book, first, second, cell)",
+    "turnings": """turnings(book) is_turning(book, row) turning_within(book, cells) turnings_through(book, cell)""",
+    "sides": "price_turnings(book) is_price(book, numbers) common_cells(first, second)",
+    "agreeing": "agreeing_parts(book, table) put_together(size, parts)",
+    "painting": "paint(book, cell, colours)",
+    "crossing": "crossed(book, first, second, away, keep)",
+    "finest": "steps(book) finest_step(book)",
+    "witness": """step_witness(book, k) witness_table(witness) witness_box(witness) witness_holds(book, witness, k)""",
+    "plain": """is_plain(book) square_worth(book, sums, entries) least_bad_square(book) halves(book, group)
+        uneven_group(book)""",
+    "reshaped": """bind(book, cells) blank(book, cells) with_sum(book, name, row) with_entry(book, name, row)
+        turned(book, cell) retold(book, cell, factor) doubled(book, cell, name) reordered(book, order)""",
+    "webs": "flow_book(edges) height_book(edges) is_round_trip(edges, row)",
+    "makes": "stretch_book(names, stretches) nest_book(names, first, second)",
+}
+CLASSES = {"books": {"Book": "(names, rows)"}, "models": {"Model": "(book, box, *, prices=None, marks=())"}}
+GENERATORS = ("bases", "turnings")
+
+
+def forms_of(file):
+    """Returns the forms of the functions of the file, each with its arguments."""
+    return [form.strip() + ")" for form in FUNCTIONS[file].replace("\n", " ").rstrip(")").split(")")]

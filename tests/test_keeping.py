@@ -1,0 +1,160 @@
+"""Point 2: no call changes what was passed to it, keeps it, or returns what it keeps; the same call has the same value."""
+
+import copy
+import inspect
+import unittest
+
+from fineststep import (agreeing, bases, books, crossing, exact, finest, listing, makes, models, painting, plain, reading,
+                        reshaped, rows, settled, sides, turnings, webs, witness, writing)
+from fineststep.books import Book
+from fineststep.models import Model
+from interface import FUNCTIONS, forms_of
+
+BOOK = Book(["a", "b", "c"], [[2, 1, 0], [0, 3, 3]])
+PLAIN = Book(["a", "b", "c", "d"], [[1, 0, 1, 0], [0, 1, 1, 1]])
+BOX = [(0, 2), (None, (5, 2)), (None, None)]
+MODEL = Model(BOOK, BOX, prices=[1, (1, 2), 0], marks=[0])
+EDGES = [("a", 0, 1), ("b", 1, 2), ("c", 2, 0)]
+NEST = [("d", [0, 1]), ("e", [0])]
+
+# Functions of exact.py whose arguments and values are numbers and texts, which nothing changes.
+ONLY_NUMBERS = """top_of bottom_of minus over less is_whole floor_of ceiling_of nearest number_text read_number""".split()
+
+# Each call: the function, its arguments, its arguments by name.
+CALLS = [
+    (exact.ratio, [6, -4], {}), (exact.plus, [(1, 2), 3], {}), (exact.times, [(1, 2), 3], {}),
+    (exact.common_bottom, [[(1, 2), 3]], {}), (exact.least_of, [[(1, 2), 3]], {}), (exact.greatest_of, [[(1, 2), 3]], {}),
+    (rows.support, [[0, (1, 2)]], {}), (rows.agrees, [[0, 1], [1, 1]], {}), (rows.dot, [[0, 1], [1, 1]], {}),
+    (rows.negative, [[1, (1, 2)]], {}), (rows.negative, [[]], {}), (rows.scaled, [[1, 2], 1], {}),
+    (rows.added, [[0, 0], [1, 2]], {}), (rows.before, [[1], [1, 2]], {}), (rows.primitive, [[0, (-1, 2), 3]], {}),
+    (rows.primitive, [[1, 2]], {}), (rows.primitive, [[0, 0]], {}),
+    (Book, [["a", "b"], [[2, 0], [0, 1]]], {}), (Book, [["a", "b"], [[1, 5]]], {}), (Book.free, [["a", "b"]], {}),
+    (books.pivots, [BOOK], {}), (books.cell_of, [BOOK, "b"], {}), (books.is_table, [BOOK, [2, 1, 0]], {}),
+    (books.table_of, [BOOK, [3, (1, 2)]], {}), (books.same_book, [BOOK, BOOK], {}), (books.other_side, [BOOK], {}),
+    (Model, [BOOK, BOX], {"prices": [1, 2, 3], "marks": [0, 0]}), (Model, [BOOK, BOX], {}),
+    (models.is_answer, [MODEL, [2, 1, 0]], {}), (models.is_whole_answer, [MODEL, [2, 1, 0]], {}),
+    (models.price_of, [MODEL, [2, 1, 0]], {}), (models.same_model, [MODEL, MODEL], {}), (models.with_box, [MODEL, BOX], {}),
+    (models.with_range, [MODEL, 0, 1, 1], {}), (models.with_price, [MODEL, 0, 9], {}), (models.with_mark, [MODEL, 0, False], {}),
+    (reading.read_model, ["entry a to 3\nsum b = 2 a"], {}), (writing.write_model, [MODEL], {}),
+    (listing.write_table, [BOOK, [2, 1, 0]], {}), (listing.read_table, [BOOK, "a 2\nb 1\nc 0"], {}),
+    (listing.columns, [MODEL, [2, 1, 0]], {}),
+    (settled.first_free, [BOOK, [2, 0, 1]], {}), (settled.rank, [BOOK, [2, 0, 1]], {}),
+    (settled.settled, [BOOK, [2, 0, 2]], {}), (settled.settling_rule, [BOOK, [2, 1], 0], {}),
+    (bases.bases, [BOOK], {}), (bases.bases, [Book(["a"], [])], {}), (bases.is_basis, [BOOK, [2, 1]], {}),
+    (bases.basis_rows, [BOOK, [2, 1]], {}), (bases.swap, [BOOK, [1, 0], [2, 1], 0], {}),
+    (turnings.turnings, [BOOK], {}), (turnings.turnings, [Book(["a", "b"], [[1, 5]])], {}),
+    (turnings.is_turning, [BOOK, [-2, -1, 0]], {}), (turnings.turning_within, [BOOK, [2, 1, 0]], {}),
+    (turnings.turnings_through, [BOOK, 0], {}),
+    (sides.price_turnings, [BOOK], {}), (sides.is_price, [BOOK, [1, -2, 2]], {}), (sides.common_cells, [[1, 1], [0, 1]], {}),
+    (agreeing.agreeing_parts, [BOOK, [2, 2, 1]], {}), (agreeing.agreeing_parts, [BOOK, [2, 1, 0]], {}),
+    (agreeing.put_together, [3, [([2, 1, 0], 1), ([0, 1, 1], 1)]], {}), (agreeing.put_together, [3, [([2, 1, 0], 1)]], {}),
+    (painting.paint, [BOOK, 0, ["", "up", "shut"]], {}), (painting.paint, [BOOK, 0, ["up", "shut", "shut"]], {}),
+    (crossing.crossed, [BOOK, [2, 1, 0], [0, 1, 1], 1, 0], {}), (finest.steps, [BOOK], {}), (finest.finest_step, [BOOK], {}),
+    (witness.step_witness, [BOOK, 3], {}), (witness.witness_table, [([2, 1, 0], 1)], {}),
+    (witness.witness_box, [([2, 1, 0], 0)], {}), (witness.witness_holds, [BOOK, ([2, 1, 0], 0), 3], {}),
+    (plain.is_plain, [PLAIN], {}), (plain.square_worth, [PLAIN, [3, 2], [1, 0]], {}), (plain.least_bad_square, [PLAIN], {}),
+    (plain.least_bad_square, [Book(["a", "b", "c", "d"], [[1, 0, 1, 1], [0, 1, 1, -1]])], {}),
+    (plain.halves, [PLAIN, [1, 0]], {}), (plain.halves, [PLAIN, []], {}), (plain.uneven_group, [PLAIN], {}),
+    (plain.uneven_group, [Book(["a", "b", "c", "d"], [[1, 0, 1, 1], [0, 1, 1, -1]])], {}),
+    (reshaped.bind, [BOOK, [1, 1]], {}), (reshaped.blank, [BOOK, [1, 1]], {}), (reshaped.with_sum, [BOOK, "d", [1, 2, 3]], {}),
+    (reshaped.with_entry, [BOOK, "d", [1, 2, 3]], {}), (reshaped.turned, [BOOK, 1], {}), (reshaped.retold, [BOOK, 1, 2], {}),
+    (reshaped.doubled, [BOOK, 1, "d"], {}), (reshaped.reordered, [BOOK, [2, 0, 1]], {}),
+    (webs.flow_book, [EDGES], {}), (webs.height_book, [EDGES], {}), (webs.is_round_trip, [EDGES, [1, 1, 1]], {}),
+    (makes.stretch_book, [["a", "b"], [("d", 0, 1)]], {}), (makes.nest_book, [["a", "b"], NEST, [("f", [1, 1])]], {}),
+]
+
+
+def shown(value):
+    """Returns what can be compared of a value, in tuples that nothing changes."""
+    if isinstance(value, Book):
+        return ("book", value.names, value.size, value.frame)
+    if isinstance(value, Model):
+        return ("model", shown(value.book), value.box, value.prices, value.marks)
+    if isinstance(value, (list, tuple)):
+        return (type(value).__name__,) + tuple(shown(item) for item in value)
+    if isinstance(value, dict):
+        return tuple((key, shown(item)) for key, item in value.items())
+    return (type(value).__name__, value)
+
+
+def copied(value):
+    """Returns a copy with new lists; books and models are the same objects."""
+    if isinstance(value, (Book, Model)):
+        return value
+    if isinstance(value, (list, tuple)):
+        return type(value)([copied(item) for item in value])
+    if isinstance(value, dict):
+        return {key: copied(item) for key, item in value.items()}
+    return copy.copy(value)
+
+
+def spoil(value):
+    """Changes all lists in the value."""
+    if isinstance(value, (list, tuple)):
+        for item in value:
+            spoil(item)
+    if isinstance(value, dict):
+        for item in value.values():
+            spoil(item)
+    if isinstance(value, list):
+        value.reverse()
+        value.append("spoiled")
+        value[0] = "spoiled"
+
+
+def called(function, args, keywords):
+    """Returns the value of the call, as a list if it is a generator."""
+    value = function(*args, **keywords)
+    return list(value) if inspect.isgenerator(value) else value
+
+
+class Keeping(unittest.TestCase):
+    def test_every_function_of_the_interface_is_called(self):
+        have = {f"{function.__module__}.{function.__qualname__}" for function, _, _ in CALLS}
+        have |= {"fineststep.exact." + name for name in ONLY_NUMBERS}
+        for file in FUNCTIONS:
+            for form in forms_of(file):
+                self.assertIn(f"fineststep.{file}.{form.partition('(')[0]}", have)
+
+    def test_arguments_are_neither_changed_nor_kept(self):
+        for function, args, keywords in CALLS:
+            with self.subTest(function=function, args=args):
+                passed, named = copied(args), copied(keywords)
+                before = (shown(passed), shown(named))
+                value = called(function, passed, named)
+                self.assertEqual((shown(passed), shown(named)), before)
+                first = shown(value)
+                spoil(passed)
+                spoil(named)
+                self.assertEqual(shown(value), first)
+                self.assertEqual(shown(called(function, copied(args), copied(keywords))), first)
+
+    def test_returned_lists_are_new(self):
+        for function, args, keywords in CALLS:
+            with self.subTest(function=function, args=args):
+                passed, named = copied(args), copied(keywords)
+                before = (shown(passed), shown(named))
+                value = called(function, passed, named)
+                first = shown(value)
+                spoil(value)
+                self.assertEqual((shown(passed), shown(named)), before)
+                self.assertEqual(shown(called(function, passed, named)), first)
+
+    def test_yielded_lists_may_be_changed_while_the_iteration_goes_on(self):
+        for function in (bases.bases, turnings.turnings):
+            expected = list(function(BOOK))
+            found = []
+            for row in function(BOOK):
+                found.append(list(row))
+                row.append(99)
+                row[0] = 99
+            self.assertEqual(found, expected)
+
+    def test_two_iterations_at_the_same_time(self):
+        for function in (bases.bases, turnings.turnings):
+            pairs = list(zip(function(BOOK), function(BOOK)))
+            self.assertEqual([first for first, _ in pairs], [second for _, second in pairs])
+
+
+if __name__ == "__main__":
+    unittest.main()
