@@ -121,12 +121,15 @@ def read_number(text):
     number = ratio(int(top), int(bottom))
     if text.startswith("-"):
         number = minus(0, number)
-    # Each number has one written form only, so this finds 2/4, 3/1 and -0, too.
+    # Each number has one written form only, so this finds 2/4, 3/1 and -0.
     if number_text(number) != text:
         raise BadText("the text is not the written form of a number")
     return number
 
 
 def is_numeral(text):
-    """Returns True for a run of 1 to 400 digits, otherwise False."""
-    return len(text) <= MOST_DIGITS and text.isdigit()
+    """Returns True for a run of 1 to 400 digits without a leading zero, otherwise False."""
+    if not text.isdigit() or len(text) > MOST_DIGITS:
+        return False
+    # A second form of 0 as a bottom would not be seen to be 0 before it is divided by.
+    return text == "0" or not text.startswith("0")

@@ -1,5 +1,6 @@
 """Points 3 to 6: numbers, and how they are written."""
 
+import itertools
 import random
 import unittest
 from fractions import Fraction
@@ -123,6 +124,27 @@ class Written(Case):
                "1/2/3", "1 /2", "1/ 2", "1.5", "1e3", "a", "1a", "0x1", "1_0", "1,0", "\n", "1\n", "\n1", "1/2\n", "1\n/2"]
         for text in bad:
             self.raises(BadText, read_number, text)
+
+    def test_bottoms_of_zeros(self):
+        for many in (1, 2, 3, 4, 399, 400, 401):
+            for top in ("1", "0", "00", "-3", "-0", "12"):
+                self.raises(BadText, read_number, top + "/" + "0" * many)
+
+    def test_leading_zeros(self):
+        for text in ("007", "-007", "00", "-00", "000/5", "1/03", "1/003", "01/3", "-01/03", "0" * 400, "1/" + "0" * 399 + "3"):
+            self.raises(BadText, read_number, text)
+
+    def test_all_short_texts(self):
+        values = list(range(-999, 10000))
+        values += [ratio(top, bottom) for top in range(-9, 100) for bottom in range(1, 100)]
+        forms = {number_text(value): value for value in values}
+        for many in range(5):
+            for signs in itertools.product("0123-/", repeat=many):
+                text = "".join(signs)
+                if text in forms:
+                    self.assertEqual(read_number(text), forms[text])
+                else:
+                    self.raises(BadText, read_number, text)
 
     def test_what_is_one(self):
         good = {"0": 0, "1": 1, "-1": -1, "10": 10, "-1/2": (-1, 2), "1/2": (1, 2), "10/3": (10, 3), "-100/7": (-100, 7)}

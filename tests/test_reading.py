@@ -48,6 +48,10 @@ EDGES = [
     ("entry a to 1 to 2", 1, 5), ("entry a at 1 to 2", 1, 5), ("entry a at 1 at 1", 1, 5), ("entry a from 1 at 1", 1, 5),
     ("entry a at 1 2", 1, 5), ("entry a 1", 1, 3), ("entry a from 1 to 2 to 3", 1, 7), ("entry a from 1 2", 1, 5),
     ("entry a from to 1", 1, 4),
+    # bottoms of zeros
+    ("entry a at 1/0", 1, 4), ("entry a at 1/00", 1, 4), ("entry a from -3/000", 1, 4), ("entry a to 0/00", 1, 4),
+    ("entry a from 0 to 1/00", 1, 6), ("entry a price 1/000", 1, 4), ("entry a\nsum b = 1/00 a", 2, 4),
+    ("entry a\nsum b = - 1/00 a", 2, 5), ("entry a\nsum b = 0 a + 1/00 a", 2, 7), ("sum a = 1/00", 1, 4),
     # prices
     ("entry a price", 1, 4), ("entry a price x", 1, 4), ("entry a price 1 price 1", 1, 5), ("entry a price 1 from 1", 1, 5),
     ("entry a price 1 2", 1, 5), ("entry a price whole", 1, 4), ("entry a price -0", 1, 4), ("entry a price 1 at 1", 1, 5),

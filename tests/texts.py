@@ -5,22 +5,24 @@ a line may be after its first words. The fault is the first word that leaves no 
 """
 
 import random
+import re
 from fractions import Fraction
 
-from fineststep.errors import BadText
-from fineststep.exact import read_number
-
+NUMBER = re.compile("(-?[1-9][0-9]*|0)(/([1-9][0-9]*))?")
 KEYWORDS = ("from", "to", "at", "price", "whole")
 NAME_SIGNS = "abcdefghijklmnopqrstuvwxyz0123456789"
 
 
 def value_of(word):
     """Returns the number that the word is as a Fraction, or None."""
-    try:
-        number = read_number(word)
-    except BadText:
+    found = NUMBER.fullmatch(word)
+    if found is None or max(len(digits) for digits in word.lstrip("-").split("/")) > 400:
         return None
-    return Fraction(*number) if isinstance(number, tuple) else Fraction(number)
+    top, bottom = int(found[1]), int(found[3] or 1)
+    # A fraction is in lowest terms and has a bottom of at least 2.
+    if found[2] and Fraction(top, bottom).denominator != bottom or found[3] == "1":
+        return None
+    return Fraction(top, bottom)
 
 
 def is_good_name(word):
@@ -137,7 +139,7 @@ def spoiled(rng, text):
     words = rng.choice(pieces)
     at = rng.randrange(len(words) + 1)
     word = rng.choice(["", "a", "b", "0", "1", "-1", "2/4", "1/2", "+", "-", "=", "entry", "sum", "from", "to", "at", "price",
-                       "whole", "A", "q", "-0", "x"])
+                       "whole", "A", "q", "-0", "x", "1/0", "1/00", "-3/000", "1/02", "3/1"])
     what = rng.randrange(4)
     if what == 0 and at < len(words):
         del words[at]
