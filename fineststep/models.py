@@ -1,9 +1,9 @@
 """Models: a book with a range and a price for each cell, and marks."""
 
 from fineststep.books import is_table, same_book
-from fineststep.checks import check_cell, check_cells, check_size
-from fineststep.ends import has_whole_ends, is_empty, lies_within
-from fineststep.errors import EmptyRange, NotWhole
+from fineststep.checks import check_cell, check_cells, check_size, check_table
+from fineststep.ends import all_within, check_full, has_whole_ends
+from fineststep.errors import NotAnswer, NotWhole
 from fineststep.exact import is_whole
 from fineststep.rows import dot
 
@@ -27,9 +27,7 @@ class Model:
 def check_box(book, box):
     """Raises BadSize, and then EmptyRange with the first cell whose range is empty."""
     check_size(book, box)
-    for cell, (low, high) in enumerate(box):
-        if is_empty(low, high):
-            raise EmptyRange(cell)
+    check_full(box)
 
 
 def check_whole_ends(ends):
@@ -41,9 +39,14 @@ def check_whole_ends(ends):
 
 def is_answer(model, numbers):
     """Returns True if the list of numbers is an answer, otherwise False."""
-    if not is_table(model.book, numbers):
-        return False
-    return all([lies_within(number, low, high) for number, (low, high) in zip(numbers, model.box)])
+    return is_table(model.book, numbers) and all_within(numbers, model.box)
+
+
+def check_answer(model, numbers):
+    """Raises BadSize, NotTable, and then NotAnswer, unless the list of numbers is an answer."""
+    check_table(model.book, numbers)
+    if not all_within(numbers, model.box):
+        raise NotAnswer("a number of the table is out of its range")
 
 
 def is_whole_answer(model, numbers):

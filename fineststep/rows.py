@@ -28,6 +28,11 @@ def negative(numbers):
     return [minus(0, number) for number in numbers]
 
 
+def with_negatives(rows):
+    """Returns the list of the rows, each one directly before its negative."""
+    return [row for first in rows for row in (first, negative(first))]
+
+
 def scaled(numbers, factor):
     """Returns the list with every number multiplied by the factor."""
     return [times(number, factor) for number in numbers]

@@ -1,8 +1,9 @@
 """Witnesses: turnings that show that a finest step does not divide a whole number."""
 
+from fineststep.boxes import around
 from fineststep.checks import check_cell, check_narrow, check_size
 from fineststep.errors import BadStep
-from fineststep.exact import ceiling_of, floor_of, ratio
+from fineststep.exact import ratio
 from fineststep.rows import primitive
 from fineststep.turnings import is_turning, turnings
 
@@ -37,7 +38,7 @@ def witness_table(witness):
 
 def witness_box(witness):
     """Returns the box around the table of the witness."""
-    return [(floor_of(number), ceiling_of(number)) for number in witness_table(witness)]
+    return around(witness_table(witness))
 
 
 def witness_holds(book, witness, k):

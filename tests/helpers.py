@@ -6,7 +6,8 @@ import unittest
 from fractions import Fraction
 from math import gcd, lcm
 
-from fineststep.books import Book
+from fineststep.books import Book, other_side
+from fineststep.models import Model
 
 
 class Case(unittest.TestCase):
@@ -209,6 +210,39 @@ def slow_bases(book):
     many = len(book.frame)
     return [list(cells) for cells in itertools.combinations(range(book.size), many)
             if len(tables_with_zeros(book, cells)) == 0]
+
+
+def slow_signed_prices(book):
+    """Returns the signed price turnings in order."""
+    return signed(slow_turnings(other_side(book)))
+
+
+def random_range(rng, whole=False, around=0):
+    """Returns a range of any kind."""
+    how = {"bottoms": (1,)} if whole else {}
+    low, high = (number_of(fraction(random_number(rng, **how)) + around) for _ in range(2))
+    if fraction(low) > fraction(high):
+        low, high = high, low
+    return rng.choice([(low, high), (low, high), (low, high), (low, None), (None, high), (None, None), (low, low)])
+
+
+def random_model(rng, book, whole=False, near=False):
+    """Returns a model of the book; if near, most of its ranges hold the numbers of one table."""
+    table = fractions(random_table(rng, book)) if near else [0] * book.size
+    box = [random_range(rng, whole, round(number)) for number in table]
+    prices = [random_number(rng) for _ in range(book.size)]
+    marks = [cell for cell in range(book.size) if rng.random() < 0.2 and not any(isinstance(end, tuple) for end in box[cell])]
+    return Model(book, box, prices=prices, marks=marks)
+
+
+def sample_models(most=6, many=60, seed=3, entries=3, whole=False):
+    """Returns models of all kinds, of books with at most so many cells and entries."""
+    rng = random.Random(seed)
+    models = []
+    for k, book in enumerate(book for book in sample_books(most, many, seed) if len(book.frame) <= entries):
+        models.append(random_model(rng, book, whole, near=False))
+        models.append(random_model(rng, book, whole, near=True))
+    return models
 
 
 def signed(rows):

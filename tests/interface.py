@@ -29,8 +29,19 @@ FUNCTIONS = {
         turned(book, cell) retold(book, cell, factor) doubled(book, cell, name) reordered(book, order)""",
     "webs": "flow_book(edges) height_book(edges) is_round_trip(edges, row)",
     "makes": "stretch_book(names, stretches) nest_book(names, first, second)",
+    "boxes": "around(numbers) inside(box, numbers) meet(first, *others) widened(box, weights, width) greatest_worth(row, box)",
+    "barring": "barring(model) has_answer(model)",
+    "clashes": "least_clashes(model) clash_row(model, clash) only_bounds(model, bounds) repairs(model)",
+    "ranges": "cell_range(model, cell) ranges(model)",
+    "picks": "pick_answer(model, *, toward=None)",
+    "kths": "is_kth(numbers, k) kth_answers(model, k) first_kth(model, k)",
+    "widths": "least_width(model, weights) width_row(model, weights)",
+    "stands": """first_stand(model) fitted_stand(model, basis, words) stand_table(model, stand) stand_turnings(model, stand)
+        reduced_prices(model, stand) is_priced(model, stand)""",
+    "certificates": """shows_none(model, row) shows_best(model, numbers, reduced) shows_unbounded(model, numbers, turning)""",
 }
-CLASSES = {"books": {"Book": "(names, rows)"}, "models": {"Model": "(book, box, *, prices=None, marks=())"}}
+CLASSES = {"books": {"Book": "(names, rows)"}, "models": {"Model": "(book, box, *, prices=None, marks=())"},
+           "outcomes": {"Outcome": "(kind, stand, table, row, price, steps)"}}
 GENERATORS = ("bases", "turnings")
 
 

@@ -32,6 +32,7 @@ NOT_WRITTEN = set("""type typing typing_extensions enum Enum IntEnum StrEnum Fla
     NamedTuple TypedDict TYPE_CHECKING abstractmethod dataclass overload contextmanager _wall _WallAttr""".split())
 NOT_ATTRIBUTES = set("""items keys values pop update append clear extend insert remove reverse setdefault sort args encode decode
     hex fromhex format format_map mro""".split())
+STARRED = {("meet", "others")}
 KEYWORDS = {"sorted": {"key", "reverse"}, "min": {"key", "default"}, "max": {"key", "default"}, "sum": {"start"},
             "enumerate": {"start"}, "zip": {"strict"}}
 
@@ -187,12 +188,13 @@ class Form(unittest.TestCase):
 
     def test_arguments(self):
         for place, node, _ in self.nodes(ast.FunctionDef):
-            self.assertIsNone(node.args.vararg, place)
+            if node.args.vararg is not None:
+                self.assertIn((node.name, node.args.vararg.arg), STARRED, place)
             self.assertIsNone(node.args.kwarg, place)
             self.assertEqual((node.args.posonlyargs, node.returns), ([], None), place)
             for default in node.args.defaults + node.args.kw_defaults:
                 if default is not None:
-                    self.assertIn(ast.literal_eval(default), (None, (), 0), place)
+                    self.assertIn(ast.literal_eval(default), (None, (), 0, "first"), place)
 
     def test_classes(self):
         errors = {"ValueError", "BookError"}

@@ -4,10 +4,13 @@ import copy
 import inspect
 import unittest
 
-from fineststep import (agreeing, bases, books, crossing, exact, finest, listing, makes, models, painting, plain, reading,
-                        reshaped, rows, settled, sides, turnings, webs, witness, writing)
+from fineststep import (agreeing, barring, bases, books, boxes, certificates, clashes, crossing, exact, finest, kths, listing,
+                        makes, models, painting, picks, plain, ranges, reading, reshaped, rows, settled, sides, stands,
+                        turnings, webs, widths, witness, writing)
 from fineststep.books import Book
+from fineststep.errors import BookError
 from fineststep.models import Model
+from fineststep.outcomes import Outcome
 from interface import FUNCTIONS, forms_of
 
 BOOK = Book(["a", "b", "c"], [[2, 1, 0], [0, 3, 3]])
@@ -16,6 +19,11 @@ BOX = [(0, 2), (None, (5, 2)), (None, None)]
 MODEL = Model(BOOK, BOX, prices=[1, (1, 2), 0], marks=[0])
 EDGES = [("a", 0, 1), ("b", 1, 2), ("c", 2, 0)]
 NEST = [("d", [0, 1]), ("e", [0])]
+
+SUMS = Book(["a", "b", "c"], [[1, 0, 1], [0, 1, 1]])
+GOOD = Model(SUMS, [(0, 2), (0, None), (1, (5, 2))], prices=[1, (1, 2), 0], marks=[0])
+BARRED = Model(SUMS, [(0, 2), (0, 1), (5, 6)])
+STAND = ((0, 1), ("low", "low"))
 
 # Functions of exact.py whose arguments and values are numbers and texts, which nothing changes.
 ONLY_NUMBERS = """top_of bottom_of minus over less is_whole floor_of ceiling_of nearest number_text read_number""".split()
@@ -59,6 +67,24 @@ CALLS = [
     (reshaped.bind, [BOOK, [1, 1]], {}), (reshaped.blank, [BOOK, [1, 1]], {}), (reshaped.with_sum, [BOOK, "d", [1, 2, 3]], {}),
     (reshaped.with_entry, [BOOK, "d", [1, 2, 3]], {}), (reshaped.turned, [BOOK, 1], {}), (reshaped.retold, [BOOK, 1, 2], {}),
     (reshaped.doubled, [BOOK, 1, "d"], {}), (reshaped.reordered, [BOOK, [2, 0, 1]], {}),
+    (boxes.around, [[0, (1, 2)]], {}), (boxes.inside, [BOX, [0, 0, 0]], {}), (boxes.meet, [BOX], {}),
+    (boxes.meet, [BOX, [(1, 3), (0, 1), (0, 0)], [(1, 1), (0, 1), (0, None)]], {}), (boxes.widened, [BOX, [1, 2, 0], (1, 2)], {}),
+    (boxes.widened, [BOX, [1, 2, 0], 0], {}), (boxes.greatest_worth, [[-1, 1, 0], BOX], {}),
+    (barring.barring, [BARRED], {}), (barring.has_answer, [BARRED], {}), (clashes.least_clashes, [BARRED], {}),
+    (clashes.clash_row, [BARRED, [(2, "low"), (1, "high"), (0, "high"), (2, "low")]], {}), (clashes.repairs, [BARRED], {}),
+    (clashes.repairs, [GOOD], {}), (clashes.only_bounds, [GOOD, [(2, "low"), (0, "high"), (2, "low")]], {}),
+    (ranges.cell_range, [GOOD, 1], {}), (ranges.ranges, [GOOD], {}), (ranges.ranges, [BARRED], {}),
+    (picks.pick_answer, [GOOD], {}), (picks.pick_answer, [GOOD], {"toward": [3, 1, 2]}),
+    (picks.pick_answer, [BARRED], {"toward": [3, 1, 2]}),
+    (kths.is_kth, [[1, (1, 2)], 2], {}), (kths.kth_answers, [Model(SUMS, [(0, 1), (0, 1), (1, 1)]), 2], {}),
+    (kths.first_kth, [Model(SUMS, [(0, 1), (0, 1), (1, 1)]), 2], {}), (widths.least_width, [BARRED, [1, 1, 1]], {}),
+    (widths.width_row, [BARRED, [1, 1, 1]], {}), (Outcome, ["best", STAND, [0, 0, 0], [(1, 2), 0, 0], 0, 1], {}),
+    (stands.first_stand, [GOOD], {}), (stands.fitted_stand, [GOOD, (0, 1), ["high", "high"]], {}),
+    (stands.stand_table, [GOOD, STAND], {}), (stands.stand_turnings, [GOOD, STAND], {}),
+    (stands.reduced_prices, [GOOD, STAND], {}), (stands.is_priced, [GOOD, STAND], {}),
+    (certificates.shows_none, [BARRED, [1, 1, -1]], {}),
+    (certificates.shows_best, [GOOD, [0, 1, 1], [(1, 2), 0, (1, 2)]], {}),
+    (certificates.shows_unbounded, [GOOD, [0, 1, 1], [0, 1, 1]], {}),
     (webs.flow_book, [EDGES], {}), (webs.height_book, [EDGES], {}), (webs.is_round_trip, [EDGES, [1, 1, 1]], {}),
     (makes.stretch_book, [["a", "b"], [("d", 0, 1)]], {}), (makes.nest_book, [["a", "b"], NEST, [("f", [1, 1])]], {}),
 ]
@@ -70,6 +96,8 @@ def shown(value):
         return ("book", value.names, value.size, value.frame)
     if isinstance(value, Model):
         return ("model", shown(value.book), value.box, value.prices, value.marks)
+    if isinstance(value, (Outcome, BookError)):
+        return (type(value).__name__,) + tuple((name, shown(item)) for name, item in sorted(vars(value).items()))
     if isinstance(value, (list, tuple)):
         return (type(value).__name__,) + tuple(shown(item) for item in value)
     if isinstance(value, dict):
@@ -90,6 +118,8 @@ def copied(value):
 
 def spoil(value):
     """Changes all lists in the value."""
+    if isinstance(value, (Outcome, BookError)):
+        spoil(list(vars(value).values()))
     if isinstance(value, (list, tuple)):
         for item in value:
             spoil(item)
@@ -103,9 +133,12 @@ def spoil(value):
 
 
 def called(function, args, keywords):
-    """Returns the value of the call, as a list if it is a generator."""
-    value = function(*args, **keywords)
-    return list(value) if inspect.isgenerator(value) else value
+    """Returns the value of the call, as a list if it is a generator, or the error that it raises."""
+    try:
+        value = function(*args, **keywords)
+        return list(value) if inspect.isgenerator(value) else value
+    except BookError as error:
+        return error
 
 
 class Keeping(unittest.TestCase):
