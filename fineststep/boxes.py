@@ -1,6 +1,6 @@
 """Boxes: lists of ranges, one for each cell."""
 
-from fineststep.ends import all_within, check_full, tightest
+from fineststep.ends import all_within, check_full, end_toward, tightest
 from fineststep.errors import BadSize, BadWeight
 from fineststep.exact import ceiling_of, floor_of, less, minus, plus, times
 
@@ -49,7 +49,7 @@ def worth_over(row, box):
     total = 0
     for number, (low, high) in zip(row, box):
         if number != 0:
-            end = high if less(0, number) else low
+            end = end_toward(number, low, high)
             if end is None:
                 return None
             total = plus(total, times(number, end))

@@ -3,6 +3,7 @@
 from fineststep.barring import bars
 from fineststep.books import is_table
 from fineststep.checks import check_size
+from fineststep.ends import end_toward
 from fineststep.exact import less, minus
 from fineststep.models import is_answer
 from fineststep.rows import dot
@@ -44,6 +45,6 @@ def shows_unbounded(model, numbers, turning):
 def runs_free(row, box):
     """Returns True if the row meets no end: each number is 0, or the box has no end on its side."""
     for number, (low, high) in zip(row, box):
-        if number != 0 and (high if less(0, number) else low) is not None:
+        if number != 0 and end_toward(number, low, high) is not None:
             return False
     return True

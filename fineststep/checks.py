@@ -4,11 +4,18 @@ from fineststep.books import is_table
 from fineststep.errors import BadSize, NoCell, NotTable, TooWide
 
 NARROW = 9
+SMALL = 6
 
 
 def check_narrow(book):
     """Raises TooWide unless the book is narrow."""
     if book.size > NARROW:
+        raise TooWide(book.size)
+
+
+def check_small(book):
+    """Raises TooWide unless the book is small."""
+    if book.size > SMALL:
         raise TooWide(book.size)
 
 

@@ -36,6 +36,11 @@ def tightest(lows, highs):
     return (greatest_of(given(lows)), least_of(given(highs)))
 
 
+def end_toward(number, low, high):
+    """Returns the end of the range on the side of the sign of a number that is not 0."""
+    return high if less(0, number) else low
+
+
 def given(ends):
     """Returns the list of the ends that are numbers."""
     return [end for end in ends if end is not None]

@@ -61,6 +61,11 @@ def less(x, y):
     return top_of(x) * bottom_of(y) < top_of(y) * bottom_of(x)
 
 
+def size_of(number):
+    """Returns the number without its sign."""
+    return minus(0, number) if less(number, 0) else number
+
+
 def floor_of(number):
     """Returns the greatest whole number that is not above the number."""
     return top_of(number) // bottom_of(number)

@@ -51,6 +51,13 @@ def before(first, second):
     return len(first) < len(second)
 
 
+def ascending(lists):
+    """Returns the lists of numbers, which have one length, in their order and each one once."""
+    bottom = common_bottom([number for numbers in lists for number in numbers])
+    found = {tuple(scaled(numbers, bottom)): numbers for numbers in lists}
+    return [found[key] for key in sorted(found)]
+
+
 def primitive(numbers):
     """Returns the primitive row of the list."""
     bottom = common_bottom(numbers)

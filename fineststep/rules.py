@@ -12,3 +12,12 @@ def check_rule(book, rule):
             raise BadRule("the word is no rule")
     elif sorted(rule) != list(range(book.size)):
         raise BadRule("an order contains each cell exactly once")
+
+
+def chosen_cell(cells, rule):
+    """Returns the cell that the rule chooses from an ascending list of cells that are alike for it."""
+    if rule == "last":
+        return cells[-1]
+    if isinstance(rule, str):
+        return cells[0]
+    return [cell for cell in rule if cell in cells][0]

@@ -68,9 +68,15 @@ def stand_table(model, stand):
 def table_at(model, stand):
     """Returns the table of a stand that is one of the model."""
     basis, ends = stand
-    table = [0] * model.book.size
-    for cell, word, row in zip(basis, ends, leads_at(model.book, basis)):
-        table = added(table, scaled(row, over(end_named(model, cell, word), row[cell])))
+    values = [end_named(model, cell, word) for cell, word in zip(basis, ends)]
+    return table_with(basis, leads_at(model.book, basis), values, model.book.size)
+
+
+def table_with(basis, leads, values, size):
+    """Returns the table with these values at the cells of the basis."""
+    table = [0] * size
+    for cell, lead, value in zip(basis, leads, values):
+        table = added(table, scaled(lead, over(value, lead[cell])))
     return table
 
 

@@ -3,7 +3,7 @@
 from fineststep.books import is_table
 from fineststep.checks import check_cell, check_cells, check_narrow
 from fineststep.clearing import cleared, narrowed
-from fineststep.rows import negative, primitive, support
+from fineststep.rows import negative, primitive, support, with_negatives
 
 
 def turnings(book):
@@ -19,6 +19,11 @@ def turning_rows(book):
     for _, rest in narrowed(list(book.frame), 0, 1):
         found[tuple(support(rest[0]))] = rest[0]
     return [found[cells] for cells in sorted(found)]
+
+
+def signed_turnings(book):
+    """Returns the list of the signed turnings in order, without asking for a narrow book."""
+    return with_negatives([list(row) for row in turning_rows(book)])
 
 
 def is_turning(book, row):

@@ -245,6 +245,44 @@ def sample_models(most=6, many=60, seed=3, entries=3, whole=False):
     return models
 
 
+def engine_models(most=6, many=60, seed=4):
+    """Returns models with many ends, so that runs make some steps, and many ties between them."""
+    rng = random.Random(seed)
+    models = []
+    for k in range(many):
+        size = rng.randint(2, most)
+        how = {"most": 1, "bottoms": (1,)} if k % 2 else {"most": 2}
+        book = Book(names(size), random_rows(rng, rng.randint(1, size - 1), size, **how))
+        table = [0] * size if k % 3 == 0 else fractions(random_table(rng, book, most=2))
+        box = []
+        for number in table:
+            low, high = number - rng.choice([0, 0, 1, 2]), number + rng.choice([0, 0, 1, 2])
+            if k % 4 < 2:
+                shift = rng.randint(-2, 2)
+                low, high = low + shift, high + shift
+            low, high = number_of(low), number_of(high)
+            box.append(rng.choice([(low, high), (low, high), (low, None), (low, None), (None, high), (None, None)]))
+        models.append(Model(book, box, prices=[random_number(rng, most=3, bottoms=(1, 1, 2)) for _ in range(size)]))
+    return models
+
+
+def roomy_models(many=60, seed=5):
+    """Returns models that have more than one answer."""
+    rng = random.Random(seed)
+    models = []
+    for k in range(many):
+        size = rng.randint(3, 6)
+        entries = rng.randint(2, min(4, size - 1))
+        rows = [[int(cell == k) if cell < entries else rng.randint(-2, 2) for cell in range(size)] for k in range(entries)]
+        book = Book(names(size), rows)
+        box = []
+        for number in fractions(random_table(rng, book, most=2)):
+            low, high = number_of(number - rng.choice([0, 1, 2, 4])), number_of(number + rng.choice([1, 2, 3]))
+            box.append(rng.choice([(low, high), (low, high), (low, None), (None, high)]))
+        models.append(Model(book, box, prices=[random_number(rng, most=5) for _ in range(size)]))
+    return models
+
+
 def signed(rows):
     """Returns each row followed by its negative."""
     return [list(row) for turning in rows for row in (turning, [-x for x in turning])]

@@ -39,10 +39,21 @@ FUNCTIONS = {
     "stands": """first_stand(model) fitted_stand(model, basis, words) stand_table(model, stand) stand_turnings(model, stand)
         reduced_prices(model, stand) is_priced(model, stand)""",
     "certificates": """shows_none(model, row) shows_best(model, numbers, reduced) shows_unbounded(model, numbers, turning)""",
+    "stepping": "step_from(model, stand, *, rule='first')",
+    "below": "below_start(model) below_step(model, stand) from_below(model, stand)",
+    "running": "solve(model, *, rule='first') solve_from(model, stand, *, rule='first')",
+    "walking": "stands_along(model, *, rule='first') ring(model, *, rule='first')",
+    "best": """cheaper_turning(model, answer) how_far(model, answer, turning) best_price(model) best_box(model)
+        best_ranges(model)""",
+    "sheets": "sheets(book, prices) sheet_worth(sheet, box) greatest_sheet(model)",
+    "pieces": "price_pieces(model, cell) piece_price(pieces, number)",
+    "corners": "corners(model) is_corner(model, numbers)",
+    "rooms": "price_room(model, answer, cell) end_room(model, stand, cell)",
+    "rests": "whole_frame(book) whole_times(book, table) whole_at(book, cells, numbers)",
 }
 CLASSES = {"books": {"Book": "(names, rows)"}, "models": {"Model": "(book, box, *, prices=None, marks=())"},
            "outcomes": {"Outcome": "(kind, stand, table, row, price, steps)"}}
-GENERATORS = ("bases", "turnings")
+GENERATORS = ("bases", "turnings", "stands_along")
 
 
 def forms_of(file):

@@ -57,18 +57,27 @@ def box_inequalities(book, box, weights=None):
     return found
 
 
-def slow_span(book, box, prices):
-    """Returns the range of the price over the tables in the box, as Fractions or None; None if there is no table."""
+def slow_span(book, box, prices, most=()):
+    """Returns the range of the price over the tables in the box, as Fractions or None; None if there is no table.
+
+    The tables are those for which each (other prices, bound) in `most` holds: this price is at most the bound.
+    """
     many = len(book.frame)
-    columns = [sum((fraction(price) * row[k] for k, price in enumerate(prices)), Fraction(0)) for row in book.frame]
+    columns = frame_prices(book, prices)
     found = box_inequalities(book, box)
     found += [(columns + [Fraction(-1)], Fraction(0)), ([-x for x in columns] + [Fraction(1)], Fraction(0))]
+    found += [(frame_prices(book, others) + [Fraction(0)], fraction(bound)) for others, bound in most]
     return slow_interval(found, many)
 
 
-def slow_cell(book, box, cell):
-    """Returns the range of the cell over the tables in the box."""
-    return slow_span(book, box, [int(k == cell) for k in range(book.size)])
+def frame_prices(book, prices):
+    """Returns the prices of the frame rows."""
+    return [sum((fraction(price) * row[k] for k, price in enumerate(prices)), Fraction(0)) for row in book.frame]
+
+
+def slow_cell(book, box, cell, most=()):
+    """Returns the range of the cell over these tables in the box."""
+    return slow_span(book, box, [int(k == cell) for k in range(book.size)], most)
 
 
 def slow_has(book, box):

@@ -4,9 +4,10 @@ import copy
 import inspect
 import unittest
 
-from fineststep import (agreeing, barring, bases, books, boxes, certificates, clashes, crossing, exact, finest, kths, listing,
-                        makes, models, painting, picks, plain, ranges, reading, reshaped, rows, settled, sides, stands,
-                        turnings, webs, widths, witness, writing)
+from fineststep import (agreeing, barring, bases, below, best, books, boxes, certificates, clashes, corners, crossing, exact,
+                        finest, kths, listing, makes, models, painting, picks, pieces, plain, ranges, reading, reshaped, rests,
+                        rooms, rows, running, settled, sheets, sides, stands, stepping, turnings, walking, webs, widths,
+                        witness, writing)
 from fineststep.books import Book
 from fineststep.errors import BookError
 from fineststep.models import Model
@@ -23,7 +24,10 @@ NEST = [("d", [0, 1]), ("e", [0])]
 SUMS = Book(["a", "b", "c"], [[1, 0, 1], [0, 1, 1]])
 GOOD = Model(SUMS, [(0, 2), (0, None), (1, (5, 2))], prices=[1, (1, 2), 0], marks=[0])
 BARRED = Model(SUMS, [(0, 2), (0, 1), (5, 6)])
+ENDLESS = Model(SUMS, [(0, None), (0, 1), (None, None)], prices=[-1, 0, 0])
 STAND = ((0, 1), ("low", "low"))
+RING = reading.read_model("entry a from 0 price -2\nentry b from 0 price 6\nentry c from 0 price -1\nentry d from 0 price 6\n"
+                          "sum e = - a + 6 b + 2 c - 6 d from 0\nsum f = - 1/2 a + 2 b + 1/2 c - d from 0")
 
 # Functions of exact.py whose arguments and values are numbers and texts, which nothing changes.
 ONLY_NUMBERS = """top_of bottom_of minus over less is_whole floor_of ceiling_of nearest number_text read_number""".split()
@@ -85,6 +89,23 @@ CALLS = [
     (certificates.shows_none, [BARRED, [1, 1, -1]], {}),
     (certificates.shows_best, [GOOD, [0, 1, 1], [(1, 2), 0, (1, 2)]], {}),
     (certificates.shows_unbounded, [GOOD, [0, 1, 1], [0, 1, 1]], {}),
+    (stepping.step_from, [GOOD, STAND], {}), (stepping.step_from, [GOOD, STAND], {"rule": (2, 1, 0)}),
+    (stepping.step_from, [GOOD, ((0, 2), ("low", "low"))], {}), (stepping.step_from, [BARRED, ((0, 1), ("high", "high"))], {}),
+    (stepping.step_from, [ENDLESS, ((0, 1), ("low", "low"))], {}), (below.below_start, [GOOD], {}),
+    (below.below_step, [GOOD, STAND], {}), (below.below_step, [GOOD, ((0, 2), ("low", "low"))], {}),
+    (below.from_below, [GOOD, STAND], {}), (running.solve, [GOOD], {}), (running.solve, [BARRED], {"rule": (2, 0, 1)}),
+    (running.solve, [ENDLESS], {"rule": "fall"}), (running.solve_from, [GOOD, STAND], {"rule": "gain"}),
+    (walking.stands_along, [GOOD], {}), (walking.ring, [RING], {"rule": "gain"}), (walking.ring, [GOOD], {}),
+    (walking.stands_along, [RING], {"rule": "gain"}), (best.cheaper_turning, [GOOD, [1, 0, 1]], {}),
+    (best.how_far, [GOOD, [1, 0, 1], [0, 1, 1]], {}), (best.best_price, [GOOD], {}), (best.best_price, [BARRED], {}),
+    (best.best_price, [ENDLESS], {}), (best.best_box, [GOOD], {}), (best.best_ranges, [GOOD], {}),
+    (sheets.sheets, [SUMS, [1, 3, 0]], {}), (sheets.sheet_worth, [[1, 1, 0], BOX], {}), (sheets.greatest_sheet, [GOOD], {}),
+    (pieces.price_pieces, [GOOD, 2], {}), (pieces.price_pieces, [BARRED, 2], {}), (pieces.price_pieces, [ENDLESS, 1], {}),
+    (pieces.piece_price, [[(0, 2, 0, 1), (2, None, -4, 3)], (5, 2)], {}), (corners.corners, [GOOD], {}),
+    (corners.is_corner, [GOOD, [0, 1, 1]], {}), (rooms.price_room, [GOOD, [0, 1, 1], 1], {}),
+    (rooms.end_room, [GOOD, ((0, 2), ("low", "low")), 2], {}), (rests.whole_frame, [BOOK], {}),
+    (rests.whole_times, [BOOK, [2, 1, 0]], {}), (rests.whole_at, [BOOK, [1, 0], [1, 2]], {}),
+    (rests.whole_at, [BOOK, [1, 0], [1, 1]], {}), (rests.whole_at, [BOOK, [2, 1, 0], [1, 1, 1]], {}),
     (webs.flow_book, [EDGES], {}), (webs.height_book, [EDGES], {}), (webs.is_round_trip, [EDGES, [1, 1, 1]], {}),
     (makes.stretch_book, [["a", "b"], [("d", 0, 1)]], {}), (makes.nest_book, [["a", "b"], NEST, [("f", [1, 1])]], {}),
 ]

@@ -10,6 +10,7 @@ from fineststep.errors import BadSize, BadStand, NotBasis
 from fineststep.models import Model
 from fineststep.stands import first_stand, fitted_stand, is_priced, reduced_prices, stand_table, stand_turnings
 from fineststep.turnings import is_turning
+from engine import has, stands_of
 from helpers import Case, fractions, names, numbers_of, sample_models
 from slow import slow_table, slow_unit
 
@@ -24,18 +25,6 @@ NONE_OF_THE_MODEL = [
     ((0, 1), ("zero", "high")), ((0, 1), ("low", "low")), ((0, 1), ("low", "zero")), ((0, 2), ("low", "low")),
     ((0, 2), ("low", "high")), ((0, 1), ("low", "High")), ((0, 1), ("", "high")), ((0, 1), ("low", "up")),
 ]
-
-
-def has(ends):
-    """Returns the words that a cell with this range has."""
-    low, high = ends
-    return ["zero"] * (low is None and high is None) + ["low"] * (low is not None) + ["high"] * (high is not None)
-
-
-def stands_of(model):
-    """Returns all stands of the model."""
-    return [(tuple(basis), words) for basis in bases(model.book)
-            for words in itertools.product(*[has(model.box[cell]) for cell in basis])]
 
 
 def slow_reduced(model, basis):
