@@ -1,7 +1,6 @@
 """Signed price turnings that bar a model: they show that it has no answer."""
 
 from fineststep.boxes import worth_over
-from fineststep.checks import check_narrow
 from fineststep.errors import NoAnswer
 from fineststep.exact import less
 from fineststep.rows import with_negatives
@@ -20,7 +19,6 @@ def has_answer(model):
 
 def signed_prices(book):
     """Returns the signed price turnings of a narrow book in order."""
-    check_narrow(book)
     return with_negatives(price_turnings(book))
 
 

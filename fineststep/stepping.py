@@ -45,11 +45,11 @@ def ways_from(model, stand, prices):
 def chosen_way(ways, rule, scene):
     """Returns the cell that the rule lets go, with its list e."""
     if rule == "gain":
-        at = place_of_greatest([size_of(reduced) for _, reduced, _ in ways])
+        at = place_of_greatest([size_of(way[1]) for way in ways])
     elif rule == "fall":
-        at = place_of_greatest([fall_along(row, scene) for _, _, row in ways])
+        at = place_of_greatest([fall_along(way[2], scene) for way in ways])
     else:
-        cells = [cell for cell, _, _ in ways]
+        cells = [way[0] for way in ways]
         at = cells.index(chosen_cell(cells, rule))
     return (ways[at][0], ways[at][2])
 

@@ -8,7 +8,7 @@ from fineststep.stands import first_stand
 def stands_along(model, *, rule="first"):
     """Yields the stands along the run from the first stand."""
     check_rule(model.book, rule)
-    stands, _, _ = run_from(model, first_stand(model), rule)
+    stands = run_from(model, first_stand(model), rule)[0]
     for stand in stands:
         yield stand
 

@@ -67,6 +67,9 @@ class ShowsBest(Case):
 
     def test_each_condition(self):
         # The numbers are no table, or out of a range.
+        plain = Model(BOOK, [(0, 2)] * 3)
+        for numbers, expected in (([1, 1, 2], True), ([1, 1, 1], False), ([2, 1, 3], False), ([-1, 1, 0], False)):
+            self.assertIs(shows_best(plain, numbers, [0, 0, 0]), expected)
         self.assertIs(shows_best(self.MODEL, [0, 1, 2], [(1, 2), 0, (1, 2)]), False)
         self.assertIs(shows_best(self.MODEL, [0, (1, 2), (1, 2)], [(1, 2), 0, (1, 2)]), False)
         # The prices minus the reduced prices are no price row.
@@ -107,7 +110,8 @@ class ShowsBest(Case):
             self.assertEqual(slow_span(book, box, prices)[0], price)
 
     def test_bad_size(self):
-        for numbers, reduced in (([], [0, 0, 0]), ([0, 1, 1], [0, 0]), ([0] * 4, [0] * 3), ([5], [5])):
+        for numbers, reduced in (([], [0, 0, 0]), ([0, 1, 1], [0, 0]), ([0] * 4, [0] * 3), ([5], [5]), ([7, 7, 7], [0, 0]),
+                                 ([0, 1, 1], [(1, 2), 0, (1, 2), 0]), ([7, 7, 7], [0] * 4), ([7, 7], [0] * 3)):
             self.raises(BadSize, shows_best, self.MODEL, numbers, reduced)
 
 
@@ -154,7 +158,7 @@ class ShowsUnbounded(Case):
         self.assertGreater(min(counts.values()), 20)
 
     def test_bad_size(self):
-        for numbers, turning in (([], [1, 0, 1]), ([1, 2, 3], [1, 0]), ([1, 2, 4], []), ([0] * 4, [0] * 4)):
+        for numbers, turning in (([], [1, 0, 1]), ([1, 2, 3], [1, 0]), ([1, 2, 4], []), ([0] * 4, [0] * 4), ([1, 2, 4], [0] * 4)):
             self.raises(BadSize, shows_unbounded, self.MODEL, numbers, turning)
 
 

@@ -78,6 +78,9 @@ class Answers(Case):
         long = Model(Book.free(["a", "b"]), [(0, 10 ** 30), ((1, 3), (2, 3))])
         self.assertEqual([kth_answers(long, 1), first_kth(long, 1)], [[], None])
         self.assertEqual(self.raises(TooMany, kth_answers, long, 2).many, 2 * 10 ** 30 + 1)
+        nowhere = [((1, 3), (2, 3)), ((-2, 3), (-1, 3))]
+        long = Model(Book.free(["a", "b", "c"]), nowhere + [(0, 10 ** 30)])
+        self.assertEqual([kth_answers(long, 1), first_kth(long, 1)], [[], None])
 
     def test_fractional_ends(self):
         model = Model(Book.free(["a"]), [((-7, 2), (-1, 3))])
