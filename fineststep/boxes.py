@@ -20,12 +20,17 @@ def inside(box, numbers):
 def meet(first, *others):
     """Returns the meet of one or more boxes."""
     boxes = [first] + list(others)
-    for box in boxes:
-        check_lengths(first, box)
-        check_full(box)
-    met = [tightest([box[cell][0] for box in boxes], [box[cell][1] for box in boxes]) for cell in range(len(first))]
+    for other in boxes:
+        check_lengths(first, other)
+        check_full(other)
+    met = [range_in_all(boxes, cell) for cell in range(len(first))]
     check_full(met)
     return met
+
+
+def range_in_all(boxes, cell):
+    """Returns the range of the numbers that lie in the range of the cell in all boxes; it may be empty."""
+    return tightest([box[cell][0] for box in boxes], [box[cell][1] for box in boxes])
 
 
 def widened(box, weights, width):
