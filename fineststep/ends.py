@@ -9,6 +9,11 @@ def is_empty(low, high):
     return low is not None and high is not None and less(high, low)
 
 
+def is_fixed(low, high):
+    """Returns True if both ends are numbers and equal, otherwise False."""
+    return low is not None and low == high
+
+
 def lies_within(number, low, high):
     """Returns True if the number is not below the low end and not above the high end, otherwise False."""
     return not is_empty(low, number) and not is_empty(number, high)

@@ -54,6 +54,13 @@ def is_whole_answer(model, numbers):
     return is_answer(model, numbers) and all([is_whole(numbers[cell]) for cell in model.marks])
 
 
+def check_whole_answer(model, numbers):
+    """Raises BadSize, NotTable, NotAnswer, and then NotWhole, unless the list of numbers is a whole answer."""
+    check_answer(model, numbers)
+    if not is_whole_answer(model, numbers):
+        raise NotWhole("a number at a marked cell is not whole")
+
+
 def price_of(model, numbers):
     """Returns the price of the list of numbers."""
     check_size(model.book, numbers)

@@ -3,6 +3,7 @@
 from fineststep.bases import is_basis
 from fineststep.books import pivots
 from fineststep.clearing import cleared
+from fineststep.ends import is_fixed
 from fineststep.errors import BadSize, BadStand, NotBasis
 from fineststep.exact import less, over
 from fineststep.rows import added, dot, negative, scaled
@@ -129,6 +130,6 @@ def loose_cells(model, stand, reduced):
 def is_loose(ends, word, reduced):
     """Returns True if a cell with this range, word and reduced price may be let go, otherwise False."""
     low, high = ends
-    if low is not None and low == high:
+    if is_fixed(low, high):
         return False
     return less(reduced, 0) and word != "high" or less(0, reduced) and word != "low"

@@ -50,12 +50,26 @@ FUNCTIONS = {
     "corners": "corners(model) is_corner(model, numbers)",
     "rooms": "price_room(model, answer, cell) end_room(model, stand, cell)",
     "rests": "whole_frame(book) whole_times(book, table) whole_at(book, cells, numbers)",
+    "wholes": "reaches(book) whole_turnings(book) is_whole_turning(book, row) whole_parts(book, table)",
+    "lowering": """sure_whole(model) is_whole_model(model) distance(model, numbers) cheaper_whole(model, answer)
+        whole_answer(model) lowest_whole(model)""",
+    "branches": "branch(model) tree_holds(model, tree) tree_best(tree, prices)",
+    "cuts": "cut_holds(model, cut) with_cut(model, name, cut) cut_of(model, stand, cell)",
+    "cutting": "cut_run(model, names)",
+    "drops": "first_drop(model)",
+    "pushes": "first_push(model)",
+    "leaving": "first_blank(model) first_shut(model)",
+    "ahead": """step_holds(model, step) left_after(model, step) ahead(model, rules=<drop, push, blank, shut>)""",
+    "back": """models_along(model, steps) table_back(model, steps, table) turning_back(model, steps, turning)
+        row_back(model, steps, row) reduced_back(model, steps, reduced)""",
+    "roundings": "roundings(book, table) count_roundings(book, table) show_table(book, table)",
 }
 CLASSES = {"books": {"Book": "(names, rows)"}, "models": {"Model": "(book, box, *, prices=None, marks=())"},
            "outcomes": {"Outcome": "(kind, stand, table, row, price, steps)"}}
-GENERATORS = ("bases", "turnings", "stands_along")
+GENERATORS = ("bases", "turnings", "stands_along", "models_along", "roundings")
 
 
 def forms_of(file):
     """Returns the forms of the functions of the file, each with its arguments."""
-    return [form.strip() + ")" for form in FUNCTIONS[file].replace("\n", " ").rstrip(")").split(")")]
+    forms = [form.strip() + ")" for form in FUNCTIONS[file].replace("\n", " ").rstrip(")").split(")")]
+    return [form.replace("<drop, push, blank, shut>", "('drop', 'push', 'blank', 'shut')") for form in forms]

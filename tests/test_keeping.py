@@ -4,10 +4,11 @@ import copy
 import inspect
 import unittest
 
-from fineststep import (agreeing, barring, bases, below, best, books, boxes, certificates, clashes, corners, crossing, exact,
-                        finest, kths, listing, makes, models, painting, picks, pieces, plain, ranges, reading, reshaped, rests,
-                        rooms, rows, running, settled, sheets, sides, stands, stepping, turnings, walking, webs, widths,
-                        witness, writing)
+from fineststep import (agreeing, ahead, back, barring, bases, below, best, books, boxes, branches, certificates, clashes,
+                        corners, crossing, cuts, cutting, drops, exact, finest, kths, leaving, listing, lowering, makes, models,
+                        painting, picks, pieces, plain, pushes, ranges, reading, reshaped, rests, rooms, roundings, rows,
+                        running, settled, sheets, sides, stands, stepping, turnings, walking, webs, wholes, widths, witness,
+                        writing)
 from fineststep.books import Book
 from fineststep.errors import BookError
 from fineststep.models import Model
@@ -28,6 +29,15 @@ ENDLESS = Model(SUMS, [(0, None), (0, 1), (None, None)], prices=[-1, 0, 0])
 STAND = ((0, 1), ("low", "low"))
 RING = reading.read_model("entry a from 0 price -2\nentry b from 0 price 6\nentry c from 0 price -1\nentry d from 0 price 6\n"
                           "sum e = - a + 6 b + 2 c - 6 d from 0\nsum f = - 1/2 a + 2 b + 1/2 c - d from 0")
+
+HALVES = Book(["a", "b", "c"], [[2, 0, 1], [0, 2, 1]])
+WHOLE = Model(HALVES, [(0, 3), (0, 0), (0, 2)], prices=[-1, 0, 0], marks=[0, 1, 2])
+SPLIT = Model(HALVES, [(0, 3), (0, 3), (0, 2)], prices=[-2, -1, 0], marks=[0, 1, 2])
+TREE = [("split", 2, 1), ("dear", [0, 1, -4]), ("whole", [3, 1, 2], [-1, 0, -2])]
+CUT = ([0, -1, 1], [(1, 2), (1, 2), -1], 1)
+LOOSE = Model(SUMS, [(0, 2), (None, None), (0, 0)], prices=[1, 0, 5])
+DROPS = Model(SUMS, [(0, 2), (0, 5), (0, 6)])
+ALONG = [("blank", 1), ("shut", 1)]
 
 # Functions of exact.py whose arguments and values are numbers and texts, which nothing changes.
 ONLY_NUMBERS = """top_of bottom_of minus over less is_whole floor_of ceiling_of nearest number_text read_number""".split()
@@ -108,6 +118,26 @@ CALLS = [
     (rests.whole_at, [BOOK, [1, 0], [1, 1]], {}), (rests.whole_at, [BOOK, [2, 1, 0], [1, 1, 1]], {}),
     (webs.flow_book, [EDGES], {}), (webs.height_book, [EDGES], {}), (webs.is_round_trip, [EDGES, [1, 1, 1]], {}),
     (makes.stretch_book, [["a", "b"], [("d", 0, 1)]], {}), (makes.nest_book, [["a", "b"], NEST, [("f", [1, 1])]], {}),
+    (wholes.reaches, [HALVES], {}), (wholes.whole_turnings, [HALVES], {}), (wholes.whole_turnings, [Book.free(["a"])], {}),
+    (wholes.is_whole_turning, [HALVES, [1, 1, 1]], {}), (wholes.whole_parts, [HALVES, [5, 1, 3]], {}),
+    (wholes.whole_parts, [HALVES, [2, 0, 1]], {}), (lowering.sure_whole, [WHOLE], {}), (lowering.is_whole_model, [WHOLE], {}),
+    (lowering.distance, [WHOLE, [4, 0, 3]], {}), (lowering.cheaper_whole, [WHOLE, [0, 0, 0]], {}),
+    (lowering.whole_answer, [WHOLE], {}), (lowering.lowest_whole, [WHOLE], {}), (branches.branch, [WHOLE], {}),
+    (branches.branch, [Model(HALVES, [(1, 1), (0, 0), (0, 1)], marks=[0, 2])], {}), (branches.tree_holds, [SPLIT, TREE], {}),
+    (branches.tree_best, [TREE, [-2, -1, 0]], {}), (cuts.cut_holds, [WHOLE, CUT], {}), (cuts.with_cut, [WHOLE, "d", CUT], {}),
+    (cuts.cut_of, [WHOLE, ((0, 1), ("high", "low")), 2], {}), (cutting.cut_run, [WHOLE, ["x", "y"]], {}),
+    (cutting.cut_run, [Model(HALVES, [(0, None)] * 3, prices=[-1, 0, 0], marks=[0, 1, 2]), ["x"]], {}),
+    (drops.first_drop, [DROPS], {}), (pushes.first_push, [LOOSE], {}), (leaving.first_blank, [LOOSE], {}),
+    (leaving.first_shut, [LOOSE], {}), (ahead.step_holds, [DROPS, ("drop", 2, "low", [1, 1, -1])], {}),
+    (ahead.left_after, [DROPS, ("drop", 2, "low", [1, 1, -1])], {}), (ahead.left_after, [LOOSE, ("lift", 2)], {}),
+    (ahead.ahead, [DROPS], {}), (ahead.ahead, [LOOSE, ["shut", "push", "blank"]], {}), (ahead.ahead, [LOOSE, []], {}),
+    (back.models_along, [LOOSE, ALONG], {}), (back.models_along, [LOOSE, []], {}), (back.table_back, [LOOSE, ALONG, [2]], {}),
+    (back.table_back, [LOOSE, [], [1, 2, 3]], {}), (back.turning_back, [LOOSE, ALONG, [2]], {}),
+    (back.turning_back, [LOOSE, [], [1, -1, 0]], {}), (back.row_back, [LOOSE, ALONG, [0]], {}),
+    (back.row_back, [LOOSE, [], [1, 1, -1]], {}), (back.reduced_back, [LOOSE, ALONG, [1]], {}),
+    (back.reduced_back, [LOOSE, [], [1, 0, 5]], {}), (roundings.roundings, [SUMS, [(1, 2), (1, 2), 1]], {}),
+    (roundings.roundings, [SUMS, [1, 2, 3]], {}), (roundings.count_roundings, [SUMS, [(1, 2), (1, 2), 1]], {}),
+    (roundings.show_table, [SUMS, [(1, 2), (1, 2), 1]], {}), (roundings.show_table, [SUMS, [1, 2, 3]], {}),
 ]
 
 
@@ -195,7 +225,7 @@ class Keeping(unittest.TestCase):
                 self.assertEqual(shown(called(function, passed, named)), first)
 
     def test_yielded_lists_may_be_changed_while_the_iteration_goes_on(self):
-        for function in (bases.bases, turnings.turnings):
+        for function in (bases.bases, turnings.turnings, lambda book: roundings.roundings(SUMS, [(1, 2), (1, 2), 1])):
             expected = list(function(BOOK))
             found = []
             for row in function(BOOK):
