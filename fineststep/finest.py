@@ -3,6 +3,7 @@
 from math import lcm
 
 from fineststep.checks import check_narrow
+from fineststep.errors import CoarseBook
 from fineststep.turnings import turnings
 
 
@@ -18,3 +19,10 @@ def finest_step(book):
     for step in steps(book):
         common = lcm(common, step)
     return common
+
+
+def check_fine(book):
+    """Raises CoarseBook with the finest step of a narrow book if it is not 1."""
+    step = finest_step(book)
+    if step != 1:
+        raise CoarseBook(step)

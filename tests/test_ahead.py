@@ -47,6 +47,9 @@ class StepHolds(Case):
                      ("shut",), ("shut", 0, "low"), ("shut", 0, "low", turning), ("Drop", 2, "low", row), ("", 2, "low", row),
                      ("lift", 2), ("lift",), ("range", 2, "low", row), ("lift", 2, 3, 4)):
             self.assertIs(step_holds(MODEL, step), False, step)
+        model = Model(BOOK, [(0, 1), FREE, FREE])
+        for word, expected in (("push", True), ("Push", False), ("lift", False), ("", False), ("drop", False), ("blank", False)):
+            self.assertIs(step_holds(model, (word, 0, "low", turning)), expected)
 
     def test_cells_out_of_range(self):
         for cell in (-1, 3, 4, -3, 99):

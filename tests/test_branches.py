@@ -282,7 +282,7 @@ class TreeHolds(Case):
         row, table = [0, 1, -4], [2, 0, 1]
         for node in ((), ("split",), ("split", 0), ("split", 0, 1, 1), ("none",), ("none", row, row), ("dear",), ("dear", row, row),
                      ("whole",), ("whole", table), ("whole", table, row, row), ("leaf", row), ("leaf", table, row), ("", row),
-                     ("Whole", table, row), ("other", 0), ("none", row[:2]), ("dear", row + [0]), ("dear", []),
+                     ("Whole", table, row), ("other", 0), ("Split", 2, 1), ("", 2, 1), ("none", row[:2]), ("dear", row + [0]), ("dear", []),
                      ("whole", table[:2], row), ("whole", table, row + [0]), ("whole", [], [])):
             for at in range(3):
                 self.assertIs(self.spoilt(at, node), False, node)

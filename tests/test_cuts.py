@@ -82,7 +82,7 @@ class CutHolds(Case):
         self.assertIs(cut_holds(Model(HALVES, [FREE] * 3, marks=[0, 1, 2]), ([0] * 3, [0] * 3, -1)), False)
 
     def test_bad_size(self):
-        for cut in (([0] * 2, [0] * 3, 0), ([0] * 3, [0] * 4, 0), ([], [], 0)):
+        for cut in (([0] * 2, [0] * 3, 0), ([0] * 3, [0] * 4, 0), ([], [], 0), ([(1, 2), 0, 0], [0] * 2, 0), ([0] * 3, [], -1)):
             self.raises(BadSize, cut_holds, MODEL, cut)
 
     def test_a_cut_that_holds_bounds_every_whole_answer(self):

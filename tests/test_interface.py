@@ -4,7 +4,7 @@ import importlib
 import inspect
 import unittest
 
-from interface import CLASSES, FUNCTIONS, GENERATORS, forms_of
+from interface import CLASSES, FUNCTIONS, GENERATORS, METHODS, PROPERTIES, forms_of
 
 
 class Interface(unittest.TestCase):
@@ -31,6 +31,16 @@ class Interface(unittest.TestCase):
         found = importlib.import_module("fineststep.books").Book
         self.assertIsInstance(vars(found)["free"], classmethod)
         self.assertEqual(str(inspect.signature(found.free)), "(names)")
+
+    def test_the_methods_and_properties_of_a_desk_itself(self):
+        found = importlib.import_module("fineststep.desk").Desk
+        for name, form in METHODS.items():
+            self.assertTrue(inspect.isfunction(vars(found)[name]), name)
+            self.assertEqual(str(inspect.signature(vars(found)[name])), form)
+        for name in PROPERTIES:
+            self.assertIsInstance(vars(found)[name], property)
+        self.assertIsInstance(vars(found)["replayed"], classmethod)
+        self.assertEqual(str(inspect.signature(found.replayed)), "(model, deeds)")
 
 
 if __name__ == "__main__":

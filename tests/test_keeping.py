@@ -4,11 +4,11 @@ import copy
 import inspect
 import unittest
 
-from fineststep import (agreeing, ahead, back, barring, bases, below, best, books, boxes, branches, certificates, clashes,
-                        corners, crossing, cuts, cutting, drops, exact, finest, kths, leaving, listing, lowering, makes, models,
-                        painting, picks, pieces, plain, pushes, ranges, reading, reshaped, rests, rooms, roundings, rows,
-                        running, settled, sheets, sides, stands, stepping, turnings, walking, webs, wholes, widths, witness,
-                        writing)
+from fineststep import (agreeing, ahead, back, barring, bases, below, best, books, boxes, branches, cards, certificates, chances,
+                        clashes, corners, crossing, cuts, cutting, days, deeds, desk, drawing, drops, edits, exact, finest, kths,
+                        leaving, listing, lots, lowering, makes, models, moves, painting, picks, pieces, plain, pushes, ranges,
+                        reading, report, reshaped, rests, rooms, roundings, rows, running, runs, settled, sheets, sides, stands,
+                        stepping, turnings, walking, webs, wholes, widths, witness, writing)
 from fineststep.books import Book
 from fineststep.errors import BookError
 from fineststep.models import Model
@@ -36,8 +36,11 @@ SPLIT = Model(HALVES, [(0, 3), (0, 3), (0, 2)], prices=[-2, -1, 0], marks=[0, 1,
 TREE = [("split", 2, 1), ("dear", [0, 1, -4]), ("whole", [3, 1, 2], [-1, 0, -2])]
 CUT = ([0, -1, 1], [(1, 2), (1, 2), -1], 1)
 LOOSE = Model(SUMS, [(0, 2), (None, None), (0, 0)], prices=[1, 0, 5])
+LOOSE_ALL = Model(SUMS, [(None, None)] * 3)
 DROPS = Model(SUMS, [(0, 2), (0, 5), (0, 6)])
 ALONG = [("blank", 1), ("shut", 1)]
+TABLE = [(1, 2), (1, 2), 1]
+LOT = [([0, 1, 1], (1, 2)), ([1, 0, 1], (1, 2))]
 
 # Functions of exact.py whose arguments and values are numbers and texts, which nothing changes.
 ONLY_NUMBERS = """top_of bottom_of minus over less is_whole floor_of ceiling_of nearest number_text read_number""".split()
@@ -138,6 +141,19 @@ CALLS = [
     (back.reduced_back, [LOOSE, [], [1, 0, 5]], {}), (roundings.roundings, [SUMS, [(1, 2), (1, 2), 1]], {}),
     (roundings.roundings, [SUMS, [1, 2, 3]], {}), (roundings.count_roundings, [SUMS, [(1, 2), (1, 2), 1]], {}),
     (roundings.show_table, [SUMS, [(1, 2), (1, 2), 1]], {}), (roundings.show_table, [SUMS, [1, 2, 3]], {}),
+    (moves.walk_between, [LOOSE_ALL, [0, 0, 0], [2, -1, 1]], {}), (moves.walk_between, [LOOSE_ALL, [1, 2, 3], [1, 2, 3]], {}),
+    (moves.cheaper_move, [GOOD, [1, 0, 1]], {}), (lots.lot_mean, [LOT], {}), (lots.lot_mean, [[([1, 2], 1)]], {}),
+    (lots.is_lot, [SUMS, TABLE, LOT], {}), (drawing.draw_up, [SUMS, TABLE], {}),
+    (drawing.draw_up, [SUMS, TABLE], {"toward": [1, 0, 0]}), (drawing.draw_up, [SUMS, [1, 2, 3]], {}),
+    (drawing.draw_paper, [LOT, (3, 4)], {}), (chances.paper_chance, [SUMS, TABLE, [0, 1, 1]], {}),
+    (chances.rest_after, [SUMS, TABLE, [0, 1, 1]], {}), (days.parted, [SUMS, [3, 4, 7], 2], {}),
+    (days.parted, [SUMS, [3, 4, 7], 1], {}), (days.is_parting, [SUMS, [3, 4, 7], [[1, 2, 3], [2, 2, 4]]], {}),
+    (cards.cards, [SUMS, TABLE, 2], {}), (cards.least_cards, [TABLE], {}), (cards.lot_of_cards, [[[1, 0], [0, 1], [1, 0]]], {}),
+    (deeds.write_deed, [("sum", "d", [(2, "a"), (0, "b")])], {}), (deeds.read_deed, ["sum d = 2 a - b"], {}),
+    (deeds.write_journal, [[("mark", "a"), ("entry", "d", [(1, "a")])]], {}), (deeds.read_journal, ["mark a\nentry d = a"], {}),
+    (deeds.read_journal, [""], {}), (edits.edited, [GOOD, ("sum", "d", [(2, "a"), (0, "b")])], {}),
+    (edits.edited, [GOOD, ("entry", "d", [(2, "a"), (0, "b")])], {}), (edits.edited, [GOOD, ("leave", "b")], {}),
+    (edits.edited, [GOOD, ("range", "b", 1, None)], {}), (runs.run_desk, ["entry a to 2\n\nreport\nmodel\nlot\nbest"], {}),
 ]
 
 
@@ -192,10 +208,15 @@ def called(function, args, keywords):
         return error
 
 
+def desk_values(desk):
+    """Returns what can be compared of a desk."""
+    return shown([desk.model, desk.outcome, desk.deeds(), report.report(desk)])
+
+
 class Keeping(unittest.TestCase):
     def test_every_function_of_the_interface_is_called(self):
         have = {f"{function.__module__}.{function.__qualname__}" for function, _, _ in CALLS}
-        have |= {"fineststep.exact." + name for name in ONLY_NUMBERS}
+        have |= {"fineststep.exact." + name for name in ONLY_NUMBERS} | {"fineststep.report.report"}
         for file in FUNCTIONS:
             for form in forms_of(file):
                 self.assertIn(f"fineststep.{file}.{form.partition('(')[0]}", have)
@@ -223,6 +244,31 @@ class Keeping(unittest.TestCase):
                 spoil(value)
                 self.assertEqual((shown(passed), shown(named)), before)
                 self.assertEqual(shown(called(function, passed, named)), first)
+
+    def test_a_desk_keeps_nothing_and_returns_nothing_that_it_keeps(self):
+        done = [("sum", "d", [(2, "a"), (0, "b")]), ("range", "d", 0, None), ("entry", "e", [(1, "b")])]
+        passed = copied(done)
+        found = desk.Desk(GOOD)
+        found.act(*passed)
+        first = desk_values(found)
+        spoil(passed)
+        self.assertEqual(desk_values(found), first)
+        for value in (found.deeds(), report.report(found), found.tried([("leave", "a"), ("mark", "b")])):
+            spoil(value)
+            self.assertEqual(desk_values(found), first)
+        found.undo()
+        found.redo()
+        self.assertEqual(desk_values(found), first)
+        passed = copied(done)
+        other = desk.Desk.replayed(GOOD, passed)
+        self.assertEqual(shown(passed), shown(done))
+        spoil(passed)
+        self.assertEqual(desk_values(other), first)
+        tried = [("sum", "f", [(1, "a")])]
+        other.tried(tried)
+        self.assertEqual(tried, [("sum", "f", [(1, "a")])])
+        spoil(tried)
+        self.assertEqual(desk_values(other), first)
 
     def test_yielded_lists_may_be_changed_while_the_iteration_goes_on(self):
         for function in (bases.bases, turnings.turnings, lambda book: roundings.roundings(SUMS, [(1, 2), (1, 2), 1])):

@@ -11,8 +11,9 @@ from fineststep.finest import finest_step
 from fineststep.models import Model
 from fineststep.picks import pick_answer
 from fineststep.roundings import count_roundings, roundings, show_table
-from helpers import Case, fractions, names, random_rows, random_table, sample_books
+from helpers import Case, fractions, names, random_rows, sample_books
 from slow import slow_within
+from wholly import broken_table
 
 BOOK = Book(["a", "b", "c"], [[1, 0, 1], [0, 1, 1]])
 HALVES = Book(["a", "b", "c"], [[2, 0, 1], [0, 2, 1]])
@@ -55,7 +56,7 @@ class Roundings(Case):
         rng = random.Random(261)
         found = []
         for book in sample_books(7, 60, seed=261):
-            table = random_table(rng, book, most=9, bottoms=(2, 3, 4))
+            table = broken_table(rng, book)
             expected = slow_roundings(book, table)
             self.assertEqual(list(roundings(book, table)), expected)
             self.assertEqual(count_roundings(book, table), len(expected))
@@ -110,7 +111,7 @@ class ShowTable(Case):
         for _ in range(60):
             size = rng.randint(1, 6)
             book = Book(names(size), random_rows(rng, rng.randint(1, size), size, most=1, bottoms=(1,)))
-            table = random_table(rng, book, most=9, bottoms=(2, 3, 4))
+            table = broken_table(rng, book)
             shown = show_table(book, table)
             toward = [(2 * x.numerator + x.denominator) // (2 * x.denominator) for x in fractions(table)]
             self.assertEqual(shown, pick_answer(Model(book, box_around(table)), toward=toward))

@@ -7,7 +7,7 @@ from math import lcm
 
 from fineststep.books import Book, pivots
 from fineststep.models import Model
-from helpers import fractions, names, random_number, random_rows, random_table, slow_turnings
+from helpers import fractions, names, numbers_of, random_number, random_rows, random_table, slow_turnings
 from slow import slow_within
 
 
@@ -134,3 +134,12 @@ def knapsack_models(seed, many):
         box = [(0, 3)] * 3 + [(low, low + rng.randint(1, 4)) for low in (rng.randint(3, 15), rng.randint(3, 15))]
         models.append(Model(Book(names(5), rows), box, prices=[rng.randint(-9, 9) for _ in range(5)], marks=[0, 1, 2]))
     return models
+
+
+def broken_table(rng, book):
+    """Returns a table of the book that is seldom whole."""
+    table = [Fraction(0)] * book.size
+    for row in book.frame:
+        times = Fraction(rng.randint(-30, 30), rng.choice((2, 3, 4, 5)))
+        table = [x + times * y for x, y in zip(table, row)]
+    return numbers_of(table)
