@@ -110,18 +110,21 @@ class Texts(Case):
         self.raises_line(1, 6, BadLine, run_desk, "entry a from 1 to 0\n\nbest")
         self.raises_line(17, 1, BadLine, run_desk, "\n".join(f"entry a{k}" for k in range(17)) + "\n\nbest")
         rng = seeded(361)
-        seen = 0
-        for _ in range(300):
-            text = spoiled(rng, random_text(rng))
-            first = text.split("\n\n")[0] if "\n\n" in text else text[:-1] if text.endswith("\n") else text
-            first = "" if text.startswith("\n") else first
+        faults = 0
+        for _ in range(400):
+            # A line of which no word is left ends the model text, and what follows it are commands.
+            text = spoiled(rng, random_text(rng)) + rng.choice(["", "\n", "\n\nmodel", "\n\nsum x = 0\nmodel"])
+            lines = text.split("\n") + [""]
+            first = "\n".join(lines[:lines.index("")])
             fault = slow_fault(first)
             if fault is None:
-                self.assertEqual(run_desk(text + "\n\nmodel")[-len(first.split("\n")):], write_model(read_model(first)).split("\n"))
+                desk = Desk(read_model(first))
+                commands = text.split("\n")[lines.index("") + 1:]
+                self.assertEqual(run_desk(text), [line for command in commands for line in slow_answer(desk, command)])
             else:
                 self.raises_line(*fault, BadLine, run_desk, text)
-                seen += 1
-        self.assertGreater(seen, 100)
+                faults += 1
+        self.assertTrue(100 < faults < 390)
 
     def test_a_model_with_the_most_cells(self):
         text = "\n".join(f"entry c{k} from 0 to 1 price -1" for k in range(16))
@@ -232,7 +235,7 @@ class ManySessions(Case):
         models = sample_models(5, 20, seed=362) + roomy_models(10, seed=362) + loose_models(363, 20) + branch_models(364, 15)
         seen = [line for model in models for line in self.check(model, WORDS)]
         for line in ("no answer", "no least price", "refused", "none"):
-            self.assertGreater(seen.count(line), 5, line)
+            self.assertGreater(seen.count(line), 2, line)
 
     def test_wide_models(self):
         for size in (10, 13, 16):
